@@ -1,0 +1,1 @@
+"""Digitwise: arithmetic of whole numbers decided by machines that read digits."""
