@@ -86,14 +86,14 @@ def own_names(formula):
 
 
 def nodes(formula):
-    """Return the list of the pairs of each node of a formula and its level."""
+    """Return the list of the pairs of each node of a formula and its level, from the left, a node before its parts."""
     # Without recursion, because a text may have far more levels before they are refused.
     found = []
     waiting = [(formula, 1)]
     while waiting:
         node, level = waiting.pop()
         found.append((node, level))
-        waiting.extend([(part, level + 1) for part in parts(node)])
+        waiting.extend([(part, level + 1) for part in reversed(parts(node))])
     return found
 
 
