@@ -112,7 +112,7 @@ class Making(MachineTests):
         self.misused("table", 6, [[0] * 65], [True])
 
     def test_successors_that_are_no_states(self):
-        for successor in [-1, -2, 2, 3, 400]:
+        for successor in [-1, -2, 2, 3, 400, True, None, "0"]:
             for place in range(4):
                 table = [[0, 0], [1, 1]]
                 table[place // 2][place % 2] = successor

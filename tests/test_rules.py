@@ -18,6 +18,10 @@ INTERFACE = {
     "digits": ["letters", "digit", "letter_of", "word_of", "numbers_of", "with_track", "without_track"],
     "machine": ["Machine", "all_or_none"],
     "told": ["Told", "powers"],
+    "parser": ["parse_formula", "parse_book"],
+    "products": ["both", "both_with_pairs", "complement"],
+    "tracks": ["spread", "spread_with_states", "fix"],
+    "project": ["ranks", "some", "some_with_sets"],
 }
 # What each class of the interface defines in its own body.
 METHODS = {

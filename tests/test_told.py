@@ -86,7 +86,7 @@ class Making(ToldTests):
             self.misused("table", [0, 0], [row, [0, 0]])
 
     def test_successors_that_are_no_states(self):
-        for successor in [-1, 2, 3, 40]:
+        for successor in [-1, 2, 3, 40, True, None, "0"]:
             for place in range(4):
                 table = ones(2)
                 table[place // 2][place % 2] = successor
