@@ -28,3 +28,13 @@ def reached(start, width, follow):
             row.append(numbers[behind])
         table.append(row)
     return found, table
+
+
+def marks_behind(machine, marks):
+    """Return for each state of a machine if a letter leads from a marked state to it."""
+    found = [False] * machine.size
+    for state, mark in enumerate(marks):
+        if mark:
+            for behind in machine.table[state]:
+                found[behind] = True
+    return found

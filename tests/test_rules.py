@@ -22,6 +22,10 @@ INTERFACE = {
     "products": ["both", "both_with_pairs", "complement"],
     "tracks": ["spread", "spread_with_states", "fix"],
     "project": ["ranks", "some", "some_with_sets"],
+    "least": ["classes", "least", "least_with_map", "same", "apart"],
+    "linear": ["equation", "at_most"],
+    "compiler": ["Compiler", "compile_formula"],
+    "witness": ["least_number", "next_number", "least_tuple", "witness"],
 }
 # What each class of the interface defines in its own body.
 METHODS = {
@@ -31,6 +35,7 @@ METHODS = {
     ],
     ("machine", "Machine"): ["__init__", "size", "behind", "accepts", "takes", "shape"],
     ("told", "Told"): ["__init__", "output", "machine"],
+    ("compiler", "Compiler"): ["__init__", "compiled", "definition"],
 }
 IMPORTED = ["heapq", "math", "itertools", "collections", "__future__"]
 
