@@ -3,7 +3,7 @@
 from digitwise.errors import Oversized
 from digitwise.formulas import COMPARISONS, JOINTS, free_names, parts
 from digitwise.linear import at_most, equation
-from digitwise.machine import TRACKS
+from digitwise.machine import TRACKS, Machine
 from digitwise.products import both_with_pairs, complement
 from digitwise.project import ranks, some_with_sets
 from digitwise.told import powers
@@ -76,8 +76,8 @@ def comparison_machine(formula):
 
 def read_at(machine, own, names):
     """Return the machine for all these names that reads a machine at its own ones, and the tuple of the old states."""
-    spreaded, states = spread_with_states(machine, [names.index(name) for name in own], len(names))
-    return spreaded, tuple(states)
+    wider, states = spread_with_states(machine, [names.index(name) for name in own], len(names))
+    return wider, tuple(states)
 
 
 def joint_machine(kind, names, pairs):
@@ -105,3 +105,9 @@ def names_of_call(book, formula, own):
     """Return the list of the names that a call has in the place of these names of the definition's formula."""
     parameters = book.parameters(formula[1])
     return [formula[2][parameters.index(name)] for name in own]
+
+
+def told_pair(step):
+    """Return the pair of the names and the machine of a step of a paper."""
+    _, _, names, table, accepting, _, _ = step
+    return names, Machine(len(names), table, accepting)

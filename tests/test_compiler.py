@@ -328,8 +328,9 @@ class Refusals(CompilerTests):
             self.refused(Oversized, "width", compiler.definition, "wide")
             self.refused(Oversized, "states", compiler.compiled, parse_formula("large(x, x)"))
             self.refused(Oversized, "width", compiler.compiled, parse_formula("wide(a, a, a, a, a, a, a)"))
-            self.refused(Oversized, "states", compiler.compiled, parse_formula("calls(x, y) & wide(a, b, c, d, e, f, g)"))
-            self.refused(Oversized, "width", compiler.compiled, parse_formula("wide(a, b, c, d, e, f, g) & calls(x, y)"))
+            wide = "wide(a, b, c, d, e, f, g)"
+            self.refused(Oversized, "states", compiler.compiled, parse_formula(f"calls(x, y) & {wide}"))
+            self.refused(Oversized, "width", compiler.compiled, parse_formula(f"{wide} & calls(x, y)"))
             self.assertEqual(compiler.compiled(parse_formula("even(x)"))[1].size, 3)
 
 

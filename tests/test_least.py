@@ -75,7 +75,8 @@ class Classes(unittest.TestCase):
     def test_small_machines(self):
         self.assertEqual(classes(odd_digits()), [0, 1])
         self.assertEqual(classes(walk(3, 4)), [0] * 7)
-        self.assertEqual(classes(Machine(1, [[0, 1], [1, 2], [2, 3], [3, 0]], [True, False, True, False])), [0, 1, 0, 1])
+        machine = Machine(1, [[0, 1], [1, 2], [2, 3], [3, 0]], [True, False, True, False])
+        self.assertEqual(classes(machine), [0, 1, 0, 1])
         self.assertEqual(classes(doubles()), [0, 1, 2])
 
     def test_states_that_cannot_be_reached_are_asked_too(self):
@@ -177,7 +178,8 @@ class Comparing(unittest.TestCase):
     def pairs(self):
         for width in range(4):
             machines = random_machines(53 + width, [width], 6)
-            machines += [all_or_none(width, True), all_or_none(width, False), least(machines[0]), complement(machines[1])]
+            machines += [all_or_none(width, True), all_or_none(width, False)]
+            machines += [least(machines[0]), complement(machines[1])]
             yield from itertools.product(machines, repeat=2)
 
     def test_same(self):
@@ -232,7 +234,8 @@ class Comparing(unittest.TestCase):
         self.assertEqual(apart(one, complement(two)), [])
 
     def test_apart_refuses_other_widths(self):
-        for one, two in itertools.permutations([odd_digits(), doubles(), all_or_none(0, True), all_or_none(6, False)], 2):
+        machines = [odd_digits(), doubles(), all_or_none(0, True), all_or_none(6, False)]
+        for one, two in itertools.permutations(machines, 2):
             with self.assertRaises(Misused) as caught:
                 apart(one, two)
             self.assertEqual(caught.exception.why, "width")

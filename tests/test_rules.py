@@ -26,6 +26,10 @@ INTERFACE = {
     "linear": ["equation", "at_most"],
     "compiler": ["Compiler", "compile_formula"],
     "witness": ["least_number", "next_number", "least_tuple", "witness"],
+    "decide": ["decide", "is_valid", "can_be_met", "are_same", "difference"],
+    "counting": ["count_below", "is_finite", "count_all", "first_numbers"],
+    "paper": ["paper_of", "claim", "step_text"],
+    "judge": ["bad_step", "accepts", "decision"],
 }
 # What each class of the interface defines in its own body.
 METHODS = {
